@@ -1,0 +1,1 @@
+"""Enough said: asks that are done when enough have answered."""
