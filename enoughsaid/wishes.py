@@ -14,6 +14,10 @@ def is_whole(thing):
     return isinstance(thing, int) and not isinstance(thing, bool)
 
 
+def is_from_nought(thing):
+    return is_whole(thing) and thing >= 0
+
+
 def is_name(thing):
     if not isinstance(thing, str) or not 1 <= len(thing) <= LONGEST_NAME:
         return False

@@ -76,6 +76,40 @@ def doc_wanted(wish, row, out):
     )
 
 
+def sets_of(names):
+    """Every set of some of the names, told in the order of 4.1."""
+    return [list(some) for size in range(len(names) + 1) for some in itertools.combinations(sorted(names), size)]
+
+
+def doc_can_do(wish, names):
+    return any(doc_holds(wish, row) for row in rows_of(names))
+
+
+def doc_doers(wish):
+    return [some for some in sets_of(wish.names_in()) if doc_can_do(wish, some)]
+
+
+def doc_blockers(wish):
+    rows = [row for row in rows_of(wish.names_in()) if doc_holds(wish, row)]
+    return [some for some in sets_of(wish.names_in()) if all(set(row) & set(some) for row in rows)]
+
+
+def doc_least(sets):
+    """Of all sets of a kind those that are of it no longer when any one name is left out."""
+    return [some for some in sets if not any([one for one in some if one != name] in sets for name in some)]
+
+
+def doc_paper(wish, costs, paper):
+    """4.4, word for word, of a paper whose kinds are right."""
+    total, way, shut = paper
+    if not doc_holds(wish, way) or sum(costs[name] for name in way) != total:
+        return False
+    blockers = doc_blockers(wish)
+    return all(sorted(some) in blockers for some in shut) and all(
+        sum(costs[name] for name in some) >= total
+        for some in sets_of(wish.names_in()) if all(set(some) & set(one) for one in shut))
+
+
 def some_leaf(chance, names):
     kind = chance.choice("cwh")
     picked = chance.sample(names, chance.randint(1, len(names)))
@@ -126,6 +160,12 @@ def deepened(wish, many):
     for k in range(many):
         wish = Both([wish])
     return wish
+
+
+def wrong_numbers():
+    """Things that are no whole number from 0 on."""
+    return [thing for thing in odd_things() if thing is True or thing is False or not isinstance(thing, int)
+            or thing < 0] + ["0", "1", [0], (0,), {0: 0}, {0}, b"0", -999999999, any_of("a")]
 
 
 def told_fields(thing):

@@ -167,6 +167,27 @@ class Language(unittest.TestCase):
             if isinstance(node, ast.Attribute) and isinstance(node.above, ast.Call) and node.above.func is node:
                 self.assertIn(node.attr, methods | METHODS | set(TWO_UNDERSCORES))
 
+    def test_locals_are_not_called_like_imports_or_classes(self):
+        taken = {name: set() for name in files()}
+        for name, node in self.each_node():
+            if isinstance(node, ast.ClassDef):
+                taken[name].add(node.name)
+            if isinstance(node, ast.alias):
+                taken[name].add(node.name)
+        for name, node in self.each_node():
+            if isinstance(node, ast.arg):
+                self.assertNotIn(node.arg, taken[name])
+            if isinstance(node, ast.Name) and isinstance(node.ctx, ast.Store):
+                self.assertNotIn(node.id, taken[name])
+
+    def test_each_name_is_bound_once_at_the_top(self):
+        for name, node in self.each_node():
+            if isinstance(node, ast.Module):
+                bound = [part.name for part in node.body if isinstance(part, (ast.FunctionDef, ast.ClassDef))]
+                bound += [part.targets[0].id for part in node.body if isinstance(part, ast.Assign)]
+                bound += [one.name for part in node.body if isinstance(part, ast.ImportFrom) for one in part.names]
+                self.assertEqual(len(bound), len(set(bound)))
+
     def test_calls(self):
         for name, node in self.each_node():
             if called(node) in WALKED or (called(node) in ("items", "keys", "values")):
