@@ -188,6 +188,23 @@ class Language(unittest.TestCase):
                 bound += [one.name for part in node.body if isinstance(part, ast.ImportFrom) for one in part.names]
                 self.assertEqual(len(bound), len(set(bound)))
 
+    def test_values_at_the_top_are_plain(self):
+        for name, node in self.each_node():
+            if not isinstance(node, ast.Module):
+                continue
+            above = set()
+            for part in node.body:
+                if isinstance(part, ast.FunctionDef):
+                    above.add(part.name)
+                if isinstance(part, ast.Assign):
+                    self.assertIsInstance(part.targets[0], ast.Name)
+                    for one in ast.walk(part.value):
+                        self.assertIsInstance(one, (ast.Constant, ast.Tuple, ast.List, ast.Dict, ast.Name, ast.Load))
+                        if isinstance(one, ast.Name):
+                            self.assertIn(one.id, above)
+                        if isinstance(one, (ast.List, ast.Dict)):
+                            self.assertIs(one, part.value)
+
     def test_calls(self):
         for name, node in self.each_node():
             if called(node) in WALKED or (called(node) in ("items", "keys", "values")):
